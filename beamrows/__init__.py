@@ -1,0 +1,1 @@
+"""Beamrows: a small machine whose picture is drawn by a beam."""

@@ -1,0 +1,21 @@
+"""What may be told of anything at all: whether it is a number, a byte, a tuple of bytes."""
+
+MOST_OF_A_BYTE = 255
+
+
+def is_number(thing, low, high):
+    """Whether it is an int from low to high."""
+    # Python counts True and False as ints, the document does not.
+    if isinstance(thing, bool) or not isinstance(thing, int):
+        return False
+    return low <= thing <= high
+
+
+def is_byte(thing):
+    """Whether it is an int from 0 to 255."""
+    return is_number(thing, 0, MOST_OF_A_BYTE)
+
+
+def are_bytes(thing):
+    """Whether it is a tuple of bytes, of any length."""
+    return isinstance(thing, tuple) and all(is_byte(part) for part in thing)

@@ -1,0 +1,109 @@
+"""Programs and other things that several tests use."""
+
+LEAST = (("a", "go", "a"),)
+
+# Each deed once at least; 36 rows, 60 bytes long.
+EVERY = (
+    ("begin", "set", 255),
+    ("", "test", 0),
+    ("", "setx", 7),
+    ("", "get", 0),
+    ("", "put", 15),
+    ("", "add", 1),
+    ("", "sub", 2),
+    ("", "mask", 3),
+    ("", "flip", 4),
+    ("", "getx", 5),
+    ("", "putx", 6),
+    ("", "lay", 7),
+    ("", "take", 8),
+    ("", "half", None),
+    ("", "twice", None),
+    ("", "up", None),
+    ("", "down", None),
+    ("", "tox", None),
+    ("unused", "toa", None),
+    ("", "rest", None),
+    ("", "idle", None),
+    ("", "wait", None),
+    ("", "ifz", "near"),
+    ("", "ifn", "end"),
+    ("near", "ifc", "end"),
+    ("", "ifd", "begin"),
+    ("", "at", "table"),
+    ("", "door", 19),
+    ("", "door", 0),
+    ("", "eye", 5),
+    ("", "eye", 0),
+    ("", "go", "begin"),
+    ("end", "go", "end"),
+    ("", "data", 9),
+    ("table", "data", 255),
+    ("", "data", 0),
+)
+
+LINES = (
+    ("frame", "set", 3),
+    ("", "door", 2),
+    ("again", "wait", None),
+    ("", "down", None),
+    ("", "ifn", "again"),
+    ("", "go", "frame"),
+)
+
+
+def rests(count):
+    """A program with so many rows: rests and a go to itself."""
+    return (("", "rest", None),) * (count - 1) + (("end", "go", "end"),)
+
+
+def marked(count):
+    """A program with so many rows, each of which is led to: each goes to the one behind, the last to the first."""
+    names = [a + b for a in "zyxwvutsrq" for b in "abcdefghijkl"][:count]
+    return tuple((names[k], "go", names[(k + 1) % count]) for k in range(count))
+
+
+def tabled(count):
+    """A program with an at, a go to itself and so many table rows behind."""
+    code = (("", "at", "table"), ("stay", "go", "stay"))
+    return code + (("table", "data", 0),) + tuple(("", "data", k % 256) for k in range(1, count))
+
+
+PROGRAMS = (LEAST, EVERY, LINES, rests(2), rests(120), marked(2), marked(27), marked(60), tabled(1), tabled(118))
+
+
+def deep(depth, wrap, inner):
+    """The inner thing wrapped so many times."""
+    thing = inner
+    for _ in range(depth):
+        thing = wrap(thing)
+    return thing
+
+
+def anything():
+    """Things of all the kinds that may be handed in as anything; none of them is a program, a state or numbers."""
+    wraps = (lambda x: (x,), lambda x: [x], lambda x: {"a": x}, lambda x: {0: x}, lambda x: ("", x, None),
+             lambda x: (x, x), lambda x: {None: (x, [x])})
+    plain = [None, True, False, -1, 16, 20, 256, 10 ** 30, -10 ** 30, 10 ** 5000, " ", "A", "a\n", "\n", "\n\n",
+             "abcdefghi", "a b", "a1", "Go", "go ", "~", "set get", "1" * 5000, "a" * 5000]
+    holders = [[], {}, (), [()], ((),), ([],), ({},), {(): ()}, {(1, 2): [3]}, [None], (None,), (True,), ("a",),
+               ["a"], {"a": "a"}, ["", "go", "a"], [("a", "go", "a")], {0: ("a", "go", "a")}, (1, 2, 3, 4),
+               (("", "set"),), [1, [2, (3, {"b": [4]})]]]
+    nested = [deep(20, wrap, inner) for wrap in wraps[:5] for inner in (None, 5, "a", ("a", "go", "a"))]
+    nested += [deep(8, wrap, inner) for wrap in wraps[5:] for inner in (None, True, "go")]
+    return plain + holders + nested
+
+
+def with_item(items, at, item):
+    """The tuple with another item at one place."""
+    return items[:at] + (item,) + items[at + 1:]
+
+
+def with_row(program, at, row):
+    """The program with another row at one place."""
+    return with_item(program, at, row)
+
+
+def with_part(program, at, part, thing):
+    """The program with another mark (0), deed (1) or value (2) in one row."""
+    return with_item(program, at, with_item(program[at], part, thing))
