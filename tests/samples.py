@@ -107,3 +107,20 @@ def with_row(program, at, row):
 def with_part(program, at, part, thing):
     """The program with another mark (0), deed (1) or value (2) in one row."""
     return with_item(program, at, with_item(program[at], part, thing))
+
+
+def lengths_of(program):
+    """How long each row is, by the table of point 4."""
+    single = ("half", "twice", "up", "down", "tox", "toa", "rest", "idle", "wait", "data")
+    return [1 if row[1] in single else 2 for row in program]
+
+
+def bases_of(program):
+    """Bases with room: the first, some in between, and the last."""
+    last = 256 - sum(lengths_of(program))
+    return sorted({0, 1, last // 3, last // 2, last - 1, last})
+
+
+def code_of(program):
+    """How many bytes of the program's numbers are no table rows."""
+    return sum(long for row, long in zip(program, lengths_of(program)) if row[1] != "data")

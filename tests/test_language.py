@@ -95,7 +95,8 @@ class LanguageTest(unittest.TestCase):
         for path in FILES:
             tree = tree_of(path)
             imported = {alias.name for node in tree.body if isinstance(node, ast.ImportFrom) for alias in node.names}
-            stored = {node.id for node in ast.walk(tree) if isinstance(node, ast.Name) and isinstance(node.ctx, ast.Store)}
+            names = [node for node in ast.walk(tree) if isinstance(node, ast.Name)]
+            stored = {node.id for node in names if isinstance(node.ctx, ast.Store)}
             taken = {node.arg for node in ast.walk(tree) if isinstance(node, ast.arg)}
             self.assertEqual(imported & (stored | taken), set(), path.name)
 

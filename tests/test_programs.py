@@ -125,7 +125,9 @@ class CheckTest(unittest.TestCase):
         self.refused((("", "data", 0),))
         self.refused((("t", "data", 0), ("", "data", 1)))
         self.refused((("", "data", 0), ("a", "go", "a")))
+        self.refused((("", "data", 0), ("a", "go", "a"), ("", "go", "a")))
         self.refused((("a", "go", "a"), ("", "data", 0), ("b", "go", "a")))
+        self.refused((("a", "go", "a"), ("", "data", 0), ("b", "go", "a"), ("", "go", "a")))
         self.refused((("a", "go", "a"), ("", "data", 0), ("", "rest", None), ("b", "go", "a"), ("", "data", 0)))
 
     def test_the_last_of_the_others_is_a_go(self):
@@ -211,6 +213,8 @@ class NextRowsTest(unittest.TestCase):
     def test_numbers_somewhat_beyond_raise_no_error(self):
         for row in (-1, len(EVERY), len(EVERY) + 1):
             self.assertEqual(next_rows(EVERY, row), [])
+        for row in (-1, 1, 2):
+            self.assertEqual(next_rows(LEAST, row), [])
 
 
 class RowOfTest(unittest.TestCase):
