@@ -1,6 +1,6 @@
 """Programs: what is one, and which rows come next in it."""
 
-from beamrows.bounds import is_number
+from beamrows.bounds import is_number, is_tuple_of
 from beamrows.deeds import is_deed, is_if, kind
 from beamrows.errors import NoProgram
 
@@ -23,7 +23,7 @@ def check(thing):
 
 def check_row(row):
     """Refuse what is no row by itself."""
-    if not isinstance(row, tuple) or len(row) != 3:
+    if not is_tuple_of(row, 3):
         raise NoProgram("a row is a tuple of a mark, a deed and a value")
     mark, deed, value = row
     if mark != "" and not is_mark(mark):

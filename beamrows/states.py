@@ -1,10 +1,10 @@
 """States: how a run stands between two rows."""
 
-from beamrows.bounds import are_bytes, is_byte, is_number
+from beamrows.bounds import are_so_many_bytes, is_byte, is_number, is_tuple_of
 from beamrows.deeds import kind
+from beamrows.places import DOOR_COUNT
 
 MEMORY_SIZE = 16
-DOOR_COUNT = 20
 MOST_MEETINGS = 63
 MOST_TIMER = 4080
 MOST_BEAT = 4
@@ -12,7 +12,7 @@ MOST_BEAT = 4
 
 def is_state(program, thing):
     """Whether anything is a state of the program."""
-    if not isinstance(thing, tuple) or len(thing) != 12:
+    if not is_tuple_of(thing, 12):
         return False
     row, a, x, zero, carry, memory, doors, meetings, timer, beat, waiting, asked = thing
     if not is_code_row(program, row) or not is_byte(a) or not is_byte(x):
@@ -31,11 +31,6 @@ def is_state(program, thing):
 def is_code_row(program, thing):
     """Whether anything is the number of a row that is no table row."""
     return is_number(thing, 0, len(program) - 1) and kind(program[thing][1]) != "table"
-
-
-def are_so_many_bytes(thing, many):
-    """Whether anything is a tuple of so many bytes."""
-    return are_bytes(thing) and len(thing) == many
 
 
 def may_wait(program, row, beat, asked):

@@ -1,5 +1,7 @@
 """Programs and other things that several tests use."""
 
+FIELDS = ("row", "a", "x", "zero", "carry", "memory", "doors", "meetings", "timer", "beat", "waiting", "asked")
+
 LEAST = (("a", "go", "a"),)
 
 # Each deed once at least; 36 rows, 60 bytes long.
@@ -107,6 +109,18 @@ def with_row(program, at, row):
 def with_part(program, at, part, thing):
     """The program with another mark (0), deed (1) or value (2) in one row."""
     return with_item(program, at, with_item(program[at], part, thing))
+
+
+def changed(state, **fields):
+    """The state with some fields changed."""
+    for name, thing in fields.items():
+        state = with_item(state, FIELDS.index(name), thing)
+    return state
+
+
+def doors_with(held):
+    """Doors that hold 0 but for the told ones."""
+    return tuple(held.get(door, 0) for door in range(20))
 
 
 def lengths_of(program):

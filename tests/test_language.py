@@ -91,6 +91,26 @@ class LanguageTest(unittest.TestCase):
         for name, node in self.each(ast.arg):
             self.assertNotIn(node.arg, known, (name, node.lineno))
 
+    def test_methods_and_attributes(self):
+        builtin = {name for held in (str, int, list, dict, set, bytes) for name in dir(held)}
+        methods, attributes = set(), set()
+        for name, node in self.each(ast.ClassDef):
+            methods |= {part.name for part in node.body if isinstance(part, ast.FunctionDef)} - {"__init__"}
+        for name, node in self.each(ast.Attribute):
+            if isinstance(node.ctx, ast.Store):
+                attributes.add(node.attr)
+        self.assertEqual(methods & attributes, set())
+        self.assertEqual((methods | attributes) & builtin, set())
+        for name, node in self.each(ast.Attribute):
+            self.assertIn(node.attr, methods | attributes | builtin, (name, node.lineno))
+
+    def test_is_stands_with_none_true_and_false_only(self):
+        for name, node in self.each(ast.Compare):
+            for sign, other in zip(node.ops, node.comparators):
+                if isinstance(sign, (ast.Is, ast.IsNot)):
+                    self.assertIsInstance(other, ast.Constant, (name, node.lineno))
+                    self.assertIn(other.value, (None, True, False), (name, node.lineno))
+
     def test_no_local_name_hides_an_import(self):
         for path in FILES:
             tree = tree_of(path)

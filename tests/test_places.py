@@ -1,14 +1,10 @@
 import unittest
 
 from beamrows.places import colour, meetings, shows
+from tests.samples import doors_with
 
 PLACES = range(48)
 ONE, TWO, BALL, WALL = 0, 1, 2, 3
-
-
-def doors_with(held):
-    """Doors that hold 0 but for the told ones."""
-    return tuple(held.get(door, 0) for door in range(20))
 
 
 def shown(doors, shape):

@@ -2,20 +2,12 @@ import copy
 import unittest
 
 from beamrows.states import is_state, start
-from tests.samples import EVERY, LEAST, LINES, PROGRAMS, anything, with_item
+from tests.samples import EVERY, FIELDS, LEAST, LINES, PROGRAMS, anything, changed, with_item
 
-FIELDS = ("row", "a", "x", "zero", "carry", "memory", "doors", "meetings", "timer", "beat", "waiting", "asked")
 GREATEST = {"row": 5, "a": 255, "x": 255, "zero": 1, "carry": 1, "meetings": 63, "timer": 4080, "beat": 4, "asked": 1}
 
 MIDDLE = (2, 200, 9, 0, 1, tuple(range(16)), tuple(range(235, 255)), 40, 1000, 3, 0, 1)
 WAITING = with_item(with_item(with_item(with_item(MIDDLE, 0, 3), 9, 1), 10, 1), 11, 0)
-
-
-def changed(state, **fields):
-    """The state with some fields changed."""
-    for name, thing in fields.items():
-        state = with_item(state, FIELDS.index(name), thing)
-    return state
 
 
 class StartTest(unittest.TestCase):

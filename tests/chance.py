@@ -1,0 +1,76 @@
+"""Programs, states and hands by chance, the same ones each time."""
+
+from tests.samples import lengths_of
+
+PLAIN = ("half", "twice", "up", "down", "tox", "toa", "rest", "idle", "wait")
+MEMORY = ("get", "put", "add", "sub", "mask", "flip", "getx", "putx", "lay", "take")
+IFS = ("ifz", "ifn", "ifc", "ifd")
+
+
+def name_of(row):
+    """The name of the row's mark."""
+    return "m" + "abcdefghij"[row // 10] + "abcdefghij"[row % 10]
+
+
+def chance_row(chance, code, tables):
+    """A deed and its value; a mark deed's value is the number of the row it leads to."""
+    sort = chance.randrange(20)
+    if sort < 3:
+        return chance.choice(("set", "test", "setx")), chance.choice((0, 1, 2, 127, 128, 255, chance.randrange(256)))
+    if sort < 7:
+        return chance.choice(MEMORY), chance.randrange(16)
+    if sort < 11:
+        return chance.choice(PLAIN), None
+    if sort < 14:
+        return chance.choice(IFS), chance.randrange(code)
+    if sort < 15 and tables:
+        return "at", code + chance.randrange(tables)
+    if sort < 17:
+        return "eye", chance.randrange(6)
+    if sort < 18:
+        return "wait", None
+    return "door", chance.choice((0, 0, 0, 1, 2, 18, 19, chance.randrange(20)))
+
+
+def chance_program(chance, most=30):
+    """A program of up to so many rows, and some table rows."""
+    code = chance.randrange(1, most)
+    tables = chance.choice((0, 1, 3, 10))
+    rows = [chance_row(chance, code, tables) for _ in range(code - 1)]
+    rows.append(("go", chance.choice((0, chance.randrange(code)))))
+    rows += [("data", chance.randrange(256)) for _ in range(tables)]
+    led_to = {value for deed, value in rows if deed in IFS + ("go", "at")}
+    program = []
+    for number, (deed, value) in enumerate(rows):
+        mark = name_of(number) if number in led_to else ""
+        program.append((mark, deed, name_of(value) if deed in IFS + ("go", "at") else value))
+    return tuple(program)
+
+
+def chance_base(chance, program):
+    """A base with room for the program."""
+    return chance.randrange(256 - sum(lengths_of(program)) + 1)
+
+
+def chance_hands(chance):
+    """Hands."""
+    return (chance.randrange(16), chance.randrange(16), chance.randrange(4))
+
+
+def chance_state(chance, program):
+    """A state of the program, often near the bounds of its numbers."""
+    code = sum(1 for row in program if row[1] != "data")
+    row = chance.randrange(code)
+    waiting, beat, asked = 0, chance.randrange(5), chance.choice((0, 0, 1))
+    if row > 0 and program[row - 1][1] == "wait" and chance.randrange(2):
+        waiting, beat, asked = 1, 1, 0
+    doors = [chance.randrange(256) for _ in range(20)]
+    doors[1] = chance.choice((0, 0, 0, 1))
+    return (row, chance_byte(chance), chance_byte(chance), chance.randrange(2), chance.randrange(2),
+            tuple(chance_byte(chance) for _ in range(16)), tuple(doors), chance.randrange(64),
+            chance.choice((0, 1, 30, 4080, chance.randrange(4081))), beat, waiting, asked)
+
+
+def chance_byte(chance):
+    """A byte, often 0, 1, 127, 128 or 255."""
+    return chance.choice((0, 1, 127, 128, 255, chance.randrange(256), chance.randrange(256)))
