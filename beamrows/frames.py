@@ -4,6 +4,7 @@ from beamrows.beam import LINE_BEATS, MOST_LINES, places_between, with_door
 from beamrows.errors import NoFrame
 from beamrows.pages import addresses
 from beamrows.places import colour, meetings
+from beamrows.programs import is_wait
 from beamrows.steps import done, row_beats
 
 END_DOOR = 0
@@ -108,7 +109,7 @@ def frame(program, base, state, hands):
         row = processor[0]
         rows.append((row, beam.line, beam.beat))
         processor = play_row(beam, program, starts, processor, hands)
-        if program[row][1] == "wait":
+        if is_wait(program, row):
             waiting = wait_on(beam)
     picture = tuple([tuple(colours) for colours in beam.drawn])
     log = (len(picture), doors, tuple(beam.writes))

@@ -100,3 +100,8 @@ def next_rows(program, row):
     if is_if(deed):
         return sorted({row + 1, row_of(program, value)})
     return [row + 1]
+
+
+def is_wait(program, row):
+    """Whether the row with this number is a wait."""
+    return 0 <= row < len(program) and program[row][1] == "wait"

@@ -3,6 +3,7 @@
 from beamrows.bounds import are_so_many_bytes, is_byte, is_number, is_tuple_of
 from beamrows.deeds import kind
 from beamrows.places import DOOR_COUNT
+from beamrows.programs import is_wait
 
 MEMORY_SIZE = 16
 MOST_MEETINGS = 63
@@ -35,7 +36,7 @@ def is_code_row(program, thing):
 
 def may_wait(program, row, beat, asked):
     """Whether a run can be waiting when it stands so ahead of the row."""
-    return beat == 1 and asked == 0 and row > 0 and program[row - 1][1] == "wait"
+    return beat == 1 and asked == 0 and is_wait(program, row - 1)
 
 
 def start(program):

@@ -32,13 +32,39 @@ def chance_row(chance, code, tables):
     return "door", chance.choice((0, 0, 0, 1, 2, 18, 19, chance.randrange(20)))
 
 
-def chance_program(chance, most=30):
-    """A program of up to so many rows, and some table rows."""
+def chance_program(chance, most=30, waits=0):
+    """A program of up to so many rows, and some table rows; each row is made a wait in so many of 100 cases."""
     code = chance.randrange(1, most)
     tables = chance.choice((0, 1, 3, 10))
     rows = [chance_row(chance, code, tables) for _ in range(code - 1)]
+    rows = [("wait", None) if chance.randrange(100) < waits else row for row in rows]
     rows.append(("go", chance.choice((0, chance.randrange(code)))))
     rows += [("data", chance.randrange(256)) for _ in range(tables)]
+    return with_marks(rows)
+
+
+def chance_game(chance):
+    """A program of some lines a frame, each a stretch of rows with a wait at its end, and an end asked for in the last.
+
+    If-rows lead forward within their stretch, so each frame ends, and whether it is in time is a matter of the hands.
+    """
+    rows = []
+    for _ in range(chance.randrange(1, 5)):
+        begin, many = len(rows), chance.randrange(4, 13)
+        while len(rows) < begin + many:
+            deed, value = chance_row(chance, begin + many + 1, 0)
+            if deed in IFS:
+                value = chance.randrange(len(rows) + 1, begin + many + 1)
+            if deed != "wait":
+                rows.append((deed, value))
+        rows.append(("wait", None))
+    # In place of the last wait: an if-row that leads there comes to the write.
+    rows[-1:] = [("door", 0), ("wait", None), ("go", 0)]
+    return with_marks(rows)
+
+
+def with_marks(rows):
+    """The program of rows (deed, value), in which the value of a mark deed is a row's number."""
     led_to = {value for deed, value in rows if deed in IFS + ("go", "at")}
     program = []
     for number, (deed, value) in enumerate(rows):

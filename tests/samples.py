@@ -54,6 +54,20 @@ LINES = (
 )
 
 
+# Programs that are in time, by point 24.
+WAITS = (("a", "wait", None), ("", "go", "a"))
+# Lines counted down by x.
+DOWN = (("a", "setx", 3), ("b", "wait", None), ("", "down", None), ("", "ifn", "b"), ("", "go", "a"))
+# Lines counted up till x goes round.
+UP = (("a", "setx", 250), ("b", "wait", None), ("", "up", None), ("", "ifn", "b"), ("", "go", "a"))
+# x of any number, one less and one more, with a table behind it.
+ANY = (("a", "getx", 4), ("", "up", None), ("", "down", None), ("", "at", "t"), ("", "ifz", "c"), ("", "down", None),
+       ("c", "wait", None), ("", "go", "a"), ("t", "data", 5), ("", "data", 6))
+# An if-row whose mark is the row behind.
+SAME = (("a", "setx", 2), ("", "ifz", "b"), ("b", "door", 0), ("", "wait", None), ("", "go", "a"))
+TIMELY = (WAITS, DOWN, UP, ANY, SAME)
+
+
 def rests(count):
     """A program with so many rows: rests and a go to itself."""
     return (("", "rest", None),) * (count - 1) + (("end", "go", "end"),)

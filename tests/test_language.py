@@ -120,6 +120,13 @@ class LanguageTest(unittest.TestCase):
             taken = {node.arg for node in ast.walk(tree) if isinstance(node, ast.arg)}
             self.assertEqual(imported & (stored | taken), set(), path.name)
 
+    def test_each_import_is_used(self):
+        for path in FILES:
+            tree = tree_of(path)
+            imported = {alias.name for node in tree.body if isinstance(node, ast.ImportFrom) for alias in node.names}
+            used = {node.id for node in ast.walk(tree) if isinstance(node, ast.Name)}
+            self.assertEqual(imported - used, set(), path.name)
+
     def test_imports_come_from_the_file_that_defines_the_name(self):
         for name, node in self.each(ast.ImportFrom):
             self.assertEqual(node.level, 0, name)
