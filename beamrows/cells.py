@@ -17,7 +17,7 @@ FIRST_CELL = (0, 0, 1, 0, 0)
 def right_times(program, base, thing):
     """Whether anything is cells of the program that keep in time."""
     flow = flow_of(program, base)
-    if not are_cells(program, thing) or not is_kept(thing[0], FIRST_CELL):
+    if not are_entries(program, thing, is_cell) or not is_kept(thing[0], FIRST_CELL):
         return False
     for row, cells in enumerate(thing):
         for cell in cells:
@@ -27,8 +27,8 @@ def right_times(program, base, thing):
     return True
 
 
-def are_cells(program, thing):
-    """Whether anything is cells of the program, kept in time or not."""
+def are_entries(program, thing, is_part):
+    """Whether anything is a tuple with an entry for each row, each a tuple of rising parts of one sort."""
     if not is_tuple_of(thing, len(program)):
         return False
     if not all(isinstance(entry, tuple) for entry in thing):
@@ -38,7 +38,7 @@ def are_cells(program, thing):
     for (mark, deed, value), entry in zip(program, thing):
         if kind(deed) == "table" and len(entry) > 0:
             return False
-        if not all(is_cell(part) for part in entry) or not is_rising(entry):
+        if not all(is_part(part) for part in entry) or not is_rising(entry):
             return False
     return True
 
@@ -48,11 +48,16 @@ def is_cell(thing):
     if not is_tuple_of(thing, 5):
         return False
     low, high, zero, early, late = thing
-    if not is_byte(low) or not is_byte(high) or not is_number(zero, 0, 1):
+    if not is_x_part(low, high, zero):
         return False
     if not is_number(early, 0, LAST_BEGIN) or not is_number(late, 0, LAST_BEGIN):
         return False
-    return low <= high and early <= late
+    return early <= late
+
+
+def is_x_part(low, high, zero):
+    """Whether these say which x there can be, and whether the zero flag speaks of it."""
+    return is_byte(low) and is_byte(high) and low <= high and is_number(zero, 0, 1)
 
 
 def is_rising(entry):

@@ -9,7 +9,7 @@ IFS = ("ifz", "ifn", "ifc", "ifd")
 
 def name_of(row):
     """The name of the row's mark."""
-    return "m" + "abcdefghij"[row // 10] + "abcdefghij"[row % 10]
+    return "m" + "abcdefghijkl"[row // 10] + "abcdefghij"[row % 10]
 
 
 def chance_row(chance, code, tables):
@@ -60,6 +60,34 @@ def chance_game(chance):
         rows.append(("wait", None))
     # In place of the last wait: an if-row that leads there comes to the write.
     rows[-1:] = [("door", 0), ("wait", None), ("go", 0)]
+    return with_marks(rows)
+
+
+def chance_frames(chance):
+    """A program of some lines a frame, straight ones, ones with branches and ones counted by x.
+
+    Mostly each frame has as many lines; in some cases a branch leads over a wait, or an end is asked for elsewhere.
+    """
+    rows = []
+    for _ in range(chance.randrange(1, 5)):
+        loop = chance.randrange(3) == 0
+        if loop:
+            rows.append(("setx", chance.choice((1, 2, 3, 9))))
+        begin, many = len(rows), chance.randrange(1, 6)
+        while len(rows) < begin + many:
+            deed, value = chance_row(chance, begin + many + 1, 0)
+            if deed in IFS:
+                # The last row that it can lead to is the one behind the wait.
+                last = begin + many + (1 if chance.randrange(12) == 0 else 0)
+                value = chance.randrange(len(rows) + 1, last + 1)
+            moves_x = deed in ("setx", "getx", "up", "down", "tox")
+            ends = deed == "door" and value == 0 and chance.randrange(12) > 0
+            if deed != "wait" and not (loop and moves_x) and not ends:
+                rows.append((deed, value))
+        rows.append(("wait", None))
+        if loop:
+            rows += [("down", None), ("ifn", begin)]
+    rows += [("door", 0), ("wait", None), ("go", 0)]
     return with_marks(rows)
 
 

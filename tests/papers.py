@@ -1,4 +1,6 @@
-"""Papers by the words of points 22 to 30, written apart from the program, to hold it against."""
+"""Papers by the words of points 22 to 33, written apart from the program, to hold it against."""
+
+import functools
 
 from tests.model import BEATS, IFS, marked, other_page, place_of
 
@@ -36,6 +38,7 @@ def ways_on(program, base, row):
     return [(row + 1, [BEATS[deed]] * 256, False)]
 
 
+@functools.lru_cache(maxsize=8)
 def beats_between(program, base):
     """For each row and next row of it the least and the most beats."""
     told = {}
@@ -132,9 +135,9 @@ def next_of(program, base):
 
 def leads_to(program, base, other):
     """The rows from which other is come to, by no wait in between."""
-    found = {other}
+    found, steps = {other}, list(beats_between(program, base))
     while True:
-        more = {row for row, follow in beats_between(program, base)
+        more = {row for row, follow in steps
                 if follow in found and not (is_wait(program, follow) or row == other)}
         if more <= found:
             return found
@@ -150,6 +153,22 @@ def come_to(program, base, one, other):
         fresh = {follow for row in fresh if row != other for follow in follows[row]
                  if not is_wait(program, follow)} - found
     return found
+
+
+def free_of(program, base, other):
+    """The next rows of each row that are no waits, and none of row other."""
+    return {row: [there for there in rows if not is_wait(program, there)] if row != other else []
+            for row, rows in next_of(program, base).items()}
+
+
+def all_ways(program, base, one, other, longest=12):
+    """Each way of up to so many rows."""
+    follows, ways, done = free_of(program, base, other), [(one,)], []
+    for _ in range(longest - 1):
+        ways = [way + (there,) for way in ways for there in follows[way[-1]]]
+        done += [way for way in ways if way[-1] == other]
+        ways = [way for way in ways if way[-1] != other]
+    return done
 
 
 def best_ways(program, base, one, other, which):
@@ -204,3 +223,56 @@ def is_priced(program, base, one, other, which, paper):
             if (behind < bound) if which else (behind > bound):
                 return False
     return True
+
+
+def lines_behind(program, base, row, entry):
+    """What comes of an entry of a lines paper: a list of (next row, entry), a wait with asked 1 whatever its line."""
+    low, high, zero, asked, line = entry
+    mark, deed, value = program[row]
+    if deed == "wait":
+        asked, line = 0, 0 if asked else line + 1
+    if (deed, value) == ("door", 0):
+        asked = 1
+    return [(follow, cell[:3] + (asked, line)) for follow, cell in comes(program, base, row, (low, high, zero, 0, 0))]
+
+
+def is_lost(program, row, entry):
+    """Whether it is a wait in line 39 with no end asked for."""
+    return is_wait(program, row) and entry[3:] == (0, 39)
+
+
+def entries_of(program, base, most=10 ** 9):
+    """Each (row, entry) that comes up, till they are more than so many."""
+    found, fresh = set(), {(0, (0, 0, 1, 0, 0))}
+    while fresh and len(found) <= most:
+        found |= fresh
+        reached = {new for row, entry in fresh if not is_lost(program, row, entry)
+                   for new in lines_behind(program, base, row, entry)}
+        fresh = reached - found
+    return found
+
+
+def lines_paper(program, found):
+    """The paper of entries that came up."""
+    return tuple(tuple(sorted(entry for at, entry in found if at == row)) for row in range(len(program)))
+
+
+def line_count(program, found):
+    """The lines of each frame by the entries that came up, or None where they are not told as whole."""
+    ends = {entry[4] for row, entry in found if is_wait(program, row) and entry[3] == 1}
+    if len(ends) != 1 or any(is_lost(program, row, entry) for row, entry in found):
+        return None
+    return ends.pop() + 1
+
+
+def counts(program, base, lines, paper):
+    """Whether a lines paper, which is one by its form, holds for so many lines."""
+    wanted = [(0, (0, 0, 1, 0, 0))]
+    for row, entries in enumerate(paper):
+        for entry in entries:
+            asked, line = entry[3:]
+            if is_wait(program, row) and not (line == lines - 1 if asked else line + 1 < lines):
+                return False
+            wanted += lines_behind(program, base, row, entry)
+    return all(any(entry[3:] == other[3:] and within(entry[:3] + (0, 0), other[:3] + (0, 0)) for other in paper[row])
+               for row, entry in wanted)

@@ -68,6 +68,66 @@ SAME = (("a", "setx", 2), ("", "ifz", "b"), ("b", "door", 0), ("", "wait", None)
 TIMELY = (WAITS, DOWN, UP, ANY, SAME)
 
 
+# From row 0 to row 5; from row 8 on it is not come to but by a wait, and row 11 is never come to.
+BRANCH = (
+    ("a", "get", 0),
+    ("", "ifz", "m"),
+    ("", "idle", None),
+    ("", "ifc", "out"),
+    ("m", "door", 2),
+    ("", "rest", None),
+    ("", "wait", None),
+    ("", "go", "a"),
+    ("out", "rest", None),
+    ("", "wait", None),
+    ("", "go", "a"),
+    ("never", "go", "never"),
+    ("", "data", 4),
+)
+# Rows 1 to 3 go round.
+LOOP = (
+    ("a", "rest", None),
+    ("b", "rest", None),
+    ("", "idle", None),
+    ("", "ifz", "b"),
+    ("", "rest", None),
+    ("", "wait", None),
+    ("", "go", "a"),
+)
+# Row 0 goes round by itself.
+SELF = (("a", "ifz", "a"), ("", "rest", None), ("", "go", "a"))
+
+
+def straight(lines):
+    """A frame of so many lines, one behind another; its end is asked for in the last one."""
+    return (("a", "rest", None),) + (("", "wait", None),) * (lines - 1) + (
+        ("", "door", 0), ("", "wait", None), ("", "go", "a"))
+
+
+def by_x(lines):
+    """A frame of so many lines, all but the last counted down by x."""
+    return (("a", "setx", lines - 1), ("b", "wait", None), ("", "down", None), ("", "ifn", "b"), ("", "door", 0),
+            ("", "wait", None), ("", "go", "a"))
+
+
+# Programs with frames of one line.
+GROUND = (("a", "set", 9), ("", "door", 2), ("", "door", 0), ("", "wait", None), ("", "go", "a"))
+# One line, ended by either of two waits.
+EITHER = (("a", "eye", 2), ("", "ifz", "m"), ("", "door", 0), ("", "wait", None), ("", "go", "a"), ("m", "idle", None),
+          ("", "door", 0), ("", "rest", None), ("", "wait", None), ("", "go", "a"))
+# Two lines by branches; the end is asked for once or twice.
+EYES = (("", "rest", None), ("a", "eye", 0), ("", "ifz", "m"), ("", "wait", None), ("", "go", "n"), ("m", "eye", 1),
+        ("", "wait", None), ("n", "test", 3), ("", "ifc", "o"), ("", "door", 0), ("o", "rest", None), ("", "door", 0),
+        ("", "wait", None), ("", "go", "a"), ("", "data", 7))
+# Six lines by two loops up and down, ended by either of two waits, with a row that is never come to.
+LOOPS = (("a", "setx", 254), ("b", "wait", None), ("", "up", None), ("", "ifn", "b"), ("", "eye", 0),
+         ("", "ifz", "d"), ("", "setx", 3), ("c", "wait", None), ("", "down", None), ("", "ifn", "c"),
+         ("", "door", 0), ("", "wait", None), ("", "go", "a"), ("d", "wait", None), ("", "wait", None),
+         ("", "wait", None), ("", "door", 0), ("", "wait", None), ("", "go", "a"), ("never", "go", "never"))
+# Each with the lines of its frames.
+WHOLE = ((GROUND, 1), (EITHER, 1), (EYES, 2), (LOOPS, 6), (straight(1), 1), (straight(3), 3), (by_x(5), 5))
+
+
 def rests(count):
     """A program with so many rows: rests and a go to itself."""
     return (("", "rest", None),) * (count - 1) + (("end", "go", "end"),)

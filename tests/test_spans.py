@@ -5,40 +5,11 @@ import unittest
 from beamrows.errors import NoRoom
 from beamrows.spans import right_high, right_low
 from tests.chance import chance_base, chance_game, chance_program
-from tests.papers import beats_between, is_priced, next_of, paper_of
-from tests.samples import EVERY, LEAST, PROGRAMS, anything, lengths_of, with_item
+from tests.papers import all_ways, beats_between, free_of, is_priced, paper_of
+from tests.samples import BRANCH, EVERY, LEAST, LOOP, PROGRAMS, SELF, anything, lengths_of, with_item
 
-# From row 0 to row 5; from row 8 on it is not come to but by a wait, and row 11 is never come to.
-BRANCH = (
-    ("a", "get", 0),
-    ("", "ifz", "m"),
-    ("", "idle", None),
-    ("", "ifc", "out"),
-    ("m", "door", 2),
-    ("", "rest", None),
-    ("", "wait", None),
-    ("", "go", "a"),
-    ("out", "rest", None),
-    ("", "wait", None),
-    ("", "go", "a"),
-    ("never", "go", "never"),
-    ("", "data", 4),
-)
 LOW = (9, (0, 1, 4, 5), (0, 3, 5, 8, 6, 9, None, None, (), None, None, None, None))
 HIGH = (13, (0, 1, 2, 3, 4, 5), (0, 3, 5, 8, 10, 13, None, None, (), None, None, None, None))
-
-# Rows 1 to 3 go round.
-LOOP = (
-    ("a", "rest", None),
-    ("b", "rest", None),
-    ("", "idle", None),
-    ("", "ifz", "b"),
-    ("", "rest", None),
-    ("", "wait", None),
-    ("", "go", "a"),
-)
-# Row 0 goes round by itself.
-SELF = (("a", "ifz", "a"), ("", "rest", None), ("", "go", "a"))
 
 
 class SpanCase(unittest.TestCase):
@@ -461,7 +432,7 @@ class ChanceTest(SpanCase):
     def check_round(self, program, base, ends):
         """Where there is no paper of the most beats there is a round, from each row of it."""
         one, other = ends
-        follows = self.free(program, base, other)
+        follows = free_of(program, base, other)
         rounds = 0
         for row in follows:
             ahead = (one,) if row == one else self.walk(follows, one, row)
@@ -470,11 +441,6 @@ class ChanceTest(SpanCase):
                 rounds += 1
                 self.high(True, ("round", ahead[:-1] + behind, turn), program, ends, base)
         self.assertGreater(rounds, 0)
-
-    def free(self, program, base, other):
-        """The next rows of each row that are no waits, and none of row other."""
-        return {row: [there for there in rows if program[there][1] != "wait"] if row != other else []
-                for row, rows in next_of(program, base).items()}
 
     def walk(self, follows, begin, end):
         """A shortest walk with at least one step, or None."""
@@ -498,7 +464,7 @@ class ChanceTest(SpanCase):
             if ends is None:
                 continue
             beats = beats_between(program, base)
-            ways = self.all_ways(program, base, *ends)
+            ways = all_ways(program, base, *ends)
             for which, check, worst in ((0, self.low, min), (1, self.most, max)):
                 paper = paper_of(program, base, *ends, which)
                 totals = [sum(beats[step][which] for step in zip(way, way[1:])) for way in ways]
@@ -508,15 +474,6 @@ class ChanceTest(SpanCase):
                     elif paper is not None:
                         check(True, paper, program, ends, base)
                         self.assertEqual(worst(totals), paper[0])
-
-    def all_ways(self, program, base, one, other):
-        """Each way of up to 12 rows."""
-        follows, ways, done = self.free(program, base, other), [(one,)], []
-        for _ in range(11):
-            ways = [way + (there,) for way in ways for there in follows[way[-1]]]
-            done += [way for way in ways if way[-1] == other]
-            ways = [way for way in ways if way[-1] != other]
-        return done
 
 
 if __name__ == "__main__":
