@@ -105,3 +105,8 @@ def next_rows(program, row):
 def is_wait(program, row):
     """Whether the row with this number is a wait."""
     return 0 <= row < len(program) and program[row][1] == "wait"
+
+
+def is_door(program, row):
+    """Whether the row with this number is a door row."""
+    return 0 <= row < len(program) and program[row][1] == "door"

@@ -107,9 +107,12 @@ def spans_of(program, base, most=10 ** 9):
     return found
 
 
-def least_cells(program, base, most=3000):
-    """The least cells, by going over all of them again and again; None where a late is above 30, or they are many."""
-    cells = {(0, 0, 0, 1): (0, 0)}
+def least_cells(program, base, most=3000, seeds=()):
+    """The least cells, by going over all of them again and again; None where a late is above 30, or they are many.
+
+    Seeds are ((row, low, high, zero), (early, late)) that are to be among them, or wider there.
+    """
+    cells = {(0, 0, 0, 1): (0, 0), **dict(seeds)}
     while len(cells) <= most:
         new = dict(cells)
         for (row, *span), times in cells.items():
@@ -119,8 +122,8 @@ def least_cells(program, base, most=3000):
                 early, late = new.get((follow,) + cell[:3], cell[3:])
                 new[(follow,) + cell[:3]] = (min(early, cell[3]), max(late, cell[4]))
         if new == cells:
-            rows = range(len(program))
-            return tuple(tuple(sorted((*key[1:], *times) for key, times in cells.items() if key[0] == row)) for row in rows)
+            return tuple(tuple(sorted((*key[1:], *times) for key, times in cells.items() if key[0] == row))
+                         for row in range(len(program)))
         cells = new
     return None
 
